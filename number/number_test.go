@@ -1,0 +1,60 @@
+package number
+
+import (
+	"testing"
+
+	"unwind/api"
+)
+
+// What is read is written again as it was.
+func TestReadAndWrite(t *testing.T) {
+	for _, text := range []string{"0", "1", "-1", "-3", "7/2", "-7/2", "1/1000000000", "-1000000000", "1000000000/999999999"} {
+		read, isNumber := Read(text)
+		if !isNumber || read.Text() != text {
+			t.Errorf("Read(%q) = %v, %v", text, read, isNumber)
+		}
+	}
+}
+
+// Beside a refusal stands the zero value alone.
+func TestRefusals(t *testing.T) {
+	for _, text := range []string{"", "-", "-0", "01", "4/2", "3/1", "1/0", "1/", "5/x", "5/7x", "1000000001", "1/1000000001"} {
+		if read, isNumber := Read(text); isNumber || read != (Number{}) {
+			t.Errorf("Read(%q) = %v, %v", text, read, isNumber)
+		}
+	}
+	great := Number{top: api.MaxNumber, bottom: 1}
+	if sum, errno := Plus(great, great); errno != api.ErrLimit || sum != (Number{}) {
+		t.Errorf("Plus = %v, %d", sum, errno)
+	}
+	if product, errno := Times(great, great); errno != api.ErrLimit || product != (Number{}) {
+		t.Errorf("Times = %v, %d", product, errno)
+	}
+	if over, errno := Over(Number{top: 0, bottom: 1}); errno != api.ErrDomain || over != (Number{}) {
+		t.Errorf("Over = %v, %d", over, errno)
+	}
+	if root, errno := Root(Number{top: 4, bottom: 3}); errno != api.ErrDomain || root != (Number{}) {
+		t.Errorf("Root = %v, %d", root, errno)
+	}
+}
+
+// The zero value is no number; no call panics at it.
+func TestZeroValue(t *testing.T) {
+	nothing := Number{}
+	one := Number{top: 1, bottom: 1}
+	if sum, errno := Plus(nothing, one); errno == api.OK {
+		t.Errorf("Plus = %v", sum)
+	}
+	if product, errno := Times(one, nothing); errno == api.OK {
+		t.Errorf("Times = %v", product)
+	}
+	if over, errno := Over(nothing); errno == api.OK {
+		t.Errorf("Over = %v", over)
+	}
+	if root, errno := Root(nothing); errno == api.OK && root != nothing {
+		t.Errorf("Root = %v", root)
+	}
+	if text := nothing.Text(); text != "0" {
+		t.Errorf("Text = %q", text)
+	}
+}

@@ -50,6 +50,16 @@ func Root(a Number) (Number, api.Errno) {
 	return Number{top: top, bottom: bottom}, api.OK
 }
 
+// Negative tells the number with the other sign.
+func (a Number) Negative() Number {
+	return Number{top: -a.top, bottom: a.bottom}
+}
+
+// IsZero tells if a is 0.
+func (a Number) IsZero() bool {
+	return a.top == 0
+}
+
 // Text writes a number in the one way that Read reads.
 func (a Number) Text() string {
 	top := strconv.FormatInt(a.top, 10)

@@ -58,3 +58,31 @@ func TestZeroValue(t *testing.T) {
 		t.Errorf("Text = %q", text)
 	}
 }
+
+func TestReadWhole(t *testing.T) {
+	for _, c := range []struct {
+		text  string
+		whole int
+	}{{"0", 0}, {"7", 7}, {"-12", -12}, {"1000000000", api.MaxNumber}, {"-1000000000", -api.MaxNumber}} {
+		if whole, isWhole := ReadWhole(c.text); !isWhole || whole != c.whole {
+			t.Errorf("ReadWhole(%q) = %d, %v", c.text, whole, isWhole)
+		}
+	}
+	for _, text := range []string{"", "-", "-0", "01", "1/2", "-7/2", "4/2", "3/1", "1/", "x", "1000000001"} {
+		if whole, isWhole := ReadWhole(text); isWhole || whole != 0 {
+			t.Errorf("ReadWhole(%q) = %d, %v", text, whole, isWhole)
+		}
+	}
+}
+
+func TestNegative(t *testing.T) {
+	for _, c := range []struct{ text, negative string }{{"0", "0"}, {"1", "-1"}, {"-1", "1"}, {"-7/2", "7/2"}, {"1000000000", "-1000000000"}, {"1/1000000000", "-1/1000000000"}} {
+		read, _ := Read(c.text)
+		if got := read.Negative().Text(); got != c.negative {
+			t.Errorf("the negative of %s is %s", c.text, got)
+		}
+		if read.IsZero() != (c.text == "0") {
+			t.Errorf("IsZero of %s is %v", c.text, read.IsZero())
+		}
+	}
+}

@@ -29,6 +29,15 @@ func Read(text string) (Number, bool) {
 	return Number{top: top, bottom: bottom}, true
 }
 
+// ReadWhole reads a text that is a whole number; false, if it is none.
+func ReadWhole(text string) (int, bool) {
+	read, isNumber := Read(text)
+	if !isNumber || read.bottom != 1 {
+		return 0, false
+	}
+	return int(read.top), true
+}
+
 // readBottom reads the slash and the digits behind it, up to the end of the
 // text. Below 2 there is nothing to be written behind a slash.
 func readBottom(text string, slash int) (int64, bool) {

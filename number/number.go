@@ -55,9 +55,19 @@ func (a Number) Negative() Number {
 	return Number{top: -a.top, bottom: a.bottom}
 }
 
+// WithoutSign tells a, if it is not below 0, or else its negative.
+func (a Number) WithoutSign() Number {
+	return Number{top: size(a.top), bottom: a.bottom}
+}
+
 // IsZero tells if a is 0.
 func (a Number) IsZero() bool {
 	return a.top == 0
+}
+
+// IsBelowZero tells if a is below 0.
+func (a Number) IsBelowZero() bool {
+	return a.top < 0
 }
 
 // Text writes a number in the one way that Read reads.

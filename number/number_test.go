@@ -86,3 +86,18 @@ func TestNegative(t *testing.T) {
 		}
 	}
 }
+
+func TestSigns(t *testing.T) {
+	for _, c := range []struct {
+		text, without string
+		isBelow       bool
+	}{{"0", "0", false}, {"1", "1", false}, {"-1", "1", true}, {"-7/2", "7/2", true}, {"7/2", "7/2", false}, {"-1000000000", "1000000000", true}, {"-1/1000000000", "1/1000000000", true}} {
+		read, _ := Read(c.text)
+		if got := read.WithoutSign().Text(); got != c.without {
+			t.Errorf("%s without its sign is %s", c.text, got)
+		}
+		if read.IsBelowZero() != c.isBelow {
+			t.Errorf("IsBelowZero of %s is %v", c.text, read.IsBelowZero())
+		}
+	}
+}

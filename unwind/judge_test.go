@@ -1,6 +1,7 @@
 package unwind
 
 import (
+	"maps"
 	"math/big"
 	"math/rand/v2"
 	"strconv"
@@ -17,6 +18,10 @@ type verdict struct {
 	unknown             bool
 	back, picker, plain bool
 	opposite            string
+
+	// The term itself, and what its names stood for: of a whole text alone.
+	text  string
+	names book
 }
 
 // book is what names stand for.
@@ -200,6 +205,7 @@ func mustJudge(t *testing.T, text string, names book) verdict {
 	if !ok {
 		t.Fatalf("no term: %q", text)
 	}
+	v.text, v.names = text, maps.Clone(names)
 	return v
 }
 

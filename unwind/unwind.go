@@ -3,6 +3,8 @@ package unwind
 
 import (
 	"unwind/api"
+	"unwind/lists"
+	"unwind/running"
 	"unwind/terms"
 )
 
@@ -69,5 +71,20 @@ func (x *Session) Opposite(term string) (string, api.Errno) {
 
 // Apply runs a term on a list (P8).
 func (x *Session) Apply(term string, list string, fuel int) (string, int, api.Errno) {
-	return "", 0, api.OK
+	read, errno := terms.Read(term, x.names)
+	if errno != api.OK {
+		return "", 0, errno
+	}
+	items, isList := lists.Read(list)
+	if !isList {
+		return "", 0, api.ErrList
+	}
+	if fuel < 0 || fuel > api.MaxFuel {
+		return "", 0, api.ErrArg
+	}
+	left, steps, errno := running.Run(read, items, fuel)
+	if errno != api.OK {
+		return "", 0, errno
+	}
+	return lists.Text(left), steps, api.OK
 }

@@ -17,6 +17,15 @@ type Number struct {
 	bottom int64
 }
 
+// OfWhole tells a whole value as a number: ErrLimit, if it is not within
+// MaxNumber.
+func OfWhole(value int) (Number, api.Errno) {
+	if value < -api.MaxNumber || value > api.MaxNumber {
+		return Number{}, api.ErrLimit
+	}
+	return Number{top: int64(value), bottom: 1}, api.OK
+}
+
 // Plus tells the sum: ErrLimit, if it is no number within MaxNumber.
 func Plus(a Number, b Number) (Number, api.Errno) {
 	return lowest(a.top*b.bottom+b.top*a.bottom, a.bottom*b.bottom)
@@ -68,6 +77,14 @@ func (a Number) IsZero() bool {
 // IsBelowZero tells if a is below 0.
 func (a Number) IsBelowZero() bool {
 	return a.top < 0
+}
+
+// Whole tells the value of a whole number; false, if a is none.
+func (a Number) Whole() (int, bool) {
+	if a.bottom != 1 {
+		return 0, false
+	}
+	return int(a.top), true
 }
 
 // Text writes a number in the one way that Read reads.

@@ -1,6 +1,8 @@
 package number
 
 import (
+	"math"
+	"strconv"
 	"testing"
 
 	"unwind/api"
@@ -71,6 +73,29 @@ func TestReadWhole(t *testing.T) {
 	for _, text := range []string{"", "-", "-0", "01", "1/2", "-7/2", "4/2", "3/1", "1/", "x", "1000000001"} {
 		if whole, isWhole := ReadWhole(text); isWhole || whole != 0 {
 			t.Errorf("ReadWhole(%q) = %d, %v", text, whole, isWhole)
+		}
+	}
+}
+
+// Whole values become numbers and come back, up to the bounds.
+func TestWhole(t *testing.T) {
+	for _, value := range []int{0, 1, -1, 11, 12, api.MaxNumber, -api.MaxNumber} {
+		made, errno := OfWhole(value)
+		if text := strconv.Itoa(value); errno != api.OK || made.Text() != text {
+			t.Errorf("OfWhole(%d) = %v, %d", value, made, errno)
+		}
+		if whole, isWhole := made.Whole(); !isWhole || whole != value {
+			t.Errorf("%d comes back as %d, %v", value, whole, isWhole)
+		}
+	}
+	for _, value := range []int{api.MaxNumber + 1, -api.MaxNumber - 1, math.MaxInt, math.MinInt} {
+		if made, errno := OfWhole(value); errno != api.ErrLimit || made != (Number{}) {
+			t.Errorf("OfWhole(%d) = %v, %d", value, made, errno)
+		}
+	}
+	for _, broken := range []Number{{top: 1, bottom: 2}, {top: -7, bottom: 2}, {top: 1, bottom: api.MaxNumber}, {}} {
+		if whole, isWhole := broken.Whole(); isWhole || whole != 0 {
+			t.Errorf("%v is whole: %d, %v", broken, whole, isWhole)
 		}
 	}
 }

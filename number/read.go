@@ -32,10 +32,10 @@ func Read(text string) (Number, bool) {
 // ReadWhole reads a text that is a whole number; false, if it is none.
 func ReadWhole(text string) (int, bool) {
 	read, isNumber := Read(text)
-	if !isNumber || read.bottom != 1 {
+	if !isNumber {
 		return 0, false
 	}
-	return int(read.top), true
+	return read.Whole()
 }
 
 // readBottom reads the slash and the digits behind it, up to the end of the

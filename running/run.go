@@ -30,10 +30,18 @@ type run struct {
 	left  int
 }
 
+// way runs a term, or its way back, which it must have.
+func (r *run) way(term *terms.Term, isBack bool) api.Errno {
+	if isBack {
+		return r.back(term)
+	}
+	return r.there(term)
+}
+
 // there runs a term.
 func (r *run) there(term *terms.Term) api.Errno {
 	for _, part := range term.Parts {
-		errno := r.part(part)
+		errno := r.part(part, false)
 		if errno != api.OK {
 			return errno
 		}
@@ -44,7 +52,7 @@ func (r *run) there(term *terms.Term) api.Errno {
 // back runs the way back of a term that has one.
 func (r *run) back(term *terms.Term) api.Errno {
 	for at := len(term.Parts) - 1; at >= 0; at = at - 1 {
-		errno := r.partBack(term.Parts[at])
+		errno := r.part(term.Parts[at], true)
 		if errno != api.OK {
 			return errno
 		}
@@ -61,49 +69,49 @@ func (r *run) step() api.Errno {
 	return api.OK
 }
 
-// part runs a part.
-func (r *run) part(part terms.Part) api.Errno {
+// part runs a part, or runs it backwards.
+//
+// Names, and unders with names in them, do not go backwards as their
+// opposites: in these a power of the name takes more steps.
+func (r *run) part(part terms.Part, isBack bool) api.Errno {
 	errno := r.step()
 	if errno != api.OK {
 		return errno
 	}
 	switch part.Letter {
 	case terms.Power:
+		if isBack {
+			return r.power(part.Body, -part.Count)
+		}
 		return r.power(part.Body, part.Count)
 	case terms.Under:
-		// Unders are not run yet.
-		return api.ErrBack
+		return r.under(part.Over, part.Body, isBack)
 	case terms.Name:
-		return r.there(part.Body)
+		return r.way(part.Body, isBack)
 	}
+	if isBack {
+		return r.opposite(part)
+	}
+	return r.simple(part)
+}
+
+// opposite runs the opposite of a part that holds no terms.
+func (r *run) opposite(part terms.Part) api.Errno {
+	opposite, hasOpposite := part.Opposite()
+	if !hasOpposite {
+		return api.ErrBack
+	}
+	return r.simple(opposite)
+}
+
+// simple runs a part that holds no terms.
+func (r *run) simple(part terms.Part) api.Errno {
 	items, errno := makeOf(r.items, part)
 	if errno != api.OK {
 		return errno
 	}
 	r.items = items
 	return api.OK
-}
-
-// partBack runs a part backwards: as its opposite, but for a name, of which the
-// opposite, a power of it, takes more steps.
-func (r *run) partBack(part terms.Part) api.Errno {
-	if part.Letter == terms.Name {
-		return r.nameBack(part.Body)
-	}
-	opposite, hasOpposite := part.Opposite()
-	if !hasOpposite {
-		return api.ErrBack
-	}
-	return r.part(opposite)
-}
-
-// nameBack runs a name backwards.
-func (r *run) nameBack(term *terms.Term) api.Errno {
-	errno := r.step()
-	if errno != api.OK {
-		return errno
-	}
-	return r.back(term)
 }
 
 // power runs a term so many times; its way back, if they are below 0.
@@ -116,22 +124,14 @@ func (r *run) power(term *terms.Term, turns int) api.Errno {
 		turns = -turns
 	}
 	for turn := 0; turn < turns; turn = turn + 1 {
-		errno := r.turn(term, isBack)
+		errno := r.step()
+		if errno != api.OK {
+			return errno
+		}
+		errno = r.way(term, isBack)
 		if errno != api.OK {
 			return errno
 		}
 	}
 	return api.OK
-}
-
-// turn runs a term, or its way back, as one time of a power.
-func (r *run) turn(term *terms.Term, isBack bool) api.Errno {
-	errno := r.step()
-	if errno != api.OK {
-		return errno
-	}
-	if isBack {
-		return r.back(term)
-	}
-	return r.there(term)
 }

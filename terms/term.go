@@ -60,15 +60,16 @@ func (p Part) hasBack() bool {
 	case Power:
 		return p.Count == 0 || p.Body.HasBack && (p.Count > 0 || p.Body.IsPlain)
 	case Under:
-		return p.Body.HasBack && p.Over.canStandOver()
+		return p.Body.HasBack && p.Over.CanStandOver()
 	case Name:
 		return p.Body.HasBack
 	}
 	return true
 }
 
-// canStandOver tells if a term may be the s of an under that has an opposite.
-func (t *Term) canStandOver() bool {
+// CanStandOver tells if another term can be run under this one: if what it does
+// to a list can be undone without loss.
+func (t *Term) CanStandOver() bool {
 	return t.IsPicker || t.HasBack && t.IsPlain
 }
 

@@ -410,16 +410,3 @@ func TestRunsApart(t *testing.T) {
 		checkTold(t, x, "A", back(5, "(A)^-1"))
 	}
 }
-
-// Unders are not run yet: what they answer is free, but they end.
-func TestUndersEnd(t *testing.T) {
-	x := New()
-	define(t, x, "A", "[t1:n]", api.OK)
-	for _, term := range []string{"[:]", "[t1:n]", "[v:+1]", "([s:*2])^-1", "A", "(A)^-1", "(([q:n])^0)^2", strings.Repeat("[:", 40) + strings.Repeat("]", 40)} {
-		for _, fuel := range []int{0, 1, api.MaxFuel} {
-			if got := apply(x, term, "1,2", fuel); got.errno != api.OK && got != failed(got.errno) {
-				t.Errorf("P1: Apply(%q) = %v", term, got)
-			}
-		}
-	}
-}

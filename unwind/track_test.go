@@ -69,6 +69,10 @@ func (k *track) part(part string, names book, isBack bool) api.Errno {
 		}
 		return k.power(inner[0], names, turns)
 	}
+	if part[0] == '[' {
+		inner, _, _, _ := cutBracket(part)
+		return k.under(inner[0], inner[1], names, isBack)
+	}
 	if isBack {
 		v, _, _ := judgePart(part, names)
 		part = v.opposite
@@ -92,6 +96,51 @@ func (k *track) power(text string, names book, turns int) api.Errno {
 			return errno
 		}
 	}
+	return api.OK
+}
+
+func (k *track) under(over, text string, names book, isBack bool) api.Errno {
+	v, _ := judge(over, names)
+	if v.picker {
+		return k.underPicker(over, text, names, isBack)
+	}
+	if !v.back || !v.plain {
+		return api.ErrBack
+	}
+	errno := k.run(over, names, false)
+	if errno == api.OK {
+		errno = k.run(text, names, isBack)
+	}
+	if errno == api.OK {
+		errno = k.run(over, names, true)
+	}
+	return errno
+}
+
+func (k *track) underPicker(picker, text string, names book, isBack bool) api.Errno {
+	all := slices.Clone(k.items)
+	k.items = nil
+	for at := range all {
+		k.items = append(k.items, big.NewRat(int64(at), 1))
+	}
+	if errno := k.run(picker, names, false); errno != api.OK {
+		return errno
+	}
+	places := k.items
+	k.items = nil
+	for _, place := range places {
+		k.items = append(k.items, all[place.Num().Int64()])
+	}
+	if errno := k.run(text, names, isBack); errno != api.OK {
+		return errno
+	}
+	if len(k.items) != len(places) {
+		return api.ErrLength
+	}
+	for at, place := range places {
+		all[place.Num().Int64()] = k.items[at]
+	}
+	k.items = all
 	return api.OK
 }
 
@@ -257,8 +306,8 @@ func (m maker) list() string {
 	return strings.Join(items, ",")
 }
 
-// runTerm makes a term without unders; where it is tame, one that rarely ends
-// in an error.
+// runTerm makes a term to be run; where it is tame, one that rarely ends in an
+// error.
 func (m maker) runTerm(depth int, isTame bool) string {
 	text := ""
 	for range m.IntN(4) {
@@ -268,7 +317,7 @@ func (m maker) runTerm(depth int, isTame bool) string {
 }
 
 func (m maker) runPart(depth int, isTame bool) string {
-	kind := m.IntN(12)
+	kind := m.IntN(16)
 	switch {
 	case kind < 3:
 		return m.pick("n", "r", "s", "z", "<1", "<-1", "<99", "+1", "+-1/2", "*2", "*-2/3")
@@ -281,17 +330,36 @@ func (m maker) runPart(depth int, isTame bool) string {
 	case depth == 0:
 		return m.pick("n", "r", "+1")
 	}
-	return "(" + m.runTerm(depth-1, isTame) + ")^" + m.pick("0", "1", "-1", "2", "-2", "3", "-3", "1", "-1")
+	inner := m.runTerm(depth-1, isTame)
+	if kind < 12 {
+		return "(" + inner + ")^" + m.pick("0", "1", "-1", "2", "-2", "3", "-3", "1", "-1")
+	}
+	return "[" + m.over(depth-1, isTame) + ":" + inner + "]"
+}
+
+// over makes a term under which another is to be run: mostly a picker.
+func (m maker) over(depth int, isTame bool) string {
+	if m.IntN(3) == 0 {
+		return m.runTerm(depth, isTame)
+	}
+	text := ""
+	for range m.IntN(3) {
+		text += m.pick("r", "<1", "<-2", "t0", "t1", "d1", "#0", "#1.0", "(r<1)^-1", "(d1)^2", "(t1)^0", "P", "Q", "n", "v", "s", "*2", "+1")
+	}
+	if !isTame {
+		text += m.pick("", "", "t2", "#2.0", "(t1)^-1", "q", "A", "B")
+	}
+	return text
 }
 
 // Sessions in which names are defined again and again, and terms are run with
 // them; with fuel enough, with just enough, and with less.
 func TestManyRuns(t *testing.T) {
 	m := maker{rand.New(rand.NewPCG(8, 3))}
-	seen := map[api.Errno]int{}
+	seen, seenUnder := map[api.Errno]int{}, map[api.Errno]int{}
 	for range 300 {
 		x, names := New(), book{}
-		for _, name := range []string{"A", "B", "C"} {
+		for _, name := range []string{"A", "B", "C", "P", "Q"} {
 			define(t, x, name, "", api.OK)
 			names[name[0]] = mustJudge(t, "", book{})
 		}
@@ -304,6 +372,9 @@ func TestManyRuns(t *testing.T) {
 			for _, fuel := range []int{api.MaxFuel, m.IntN(30)} {
 				want := tracked(term, list, names, fuel)
 				seen[want.errno]++
+				if strings.Contains(term, "[") {
+					seenUnder[want.errno]++
+				}
 				checkRan(t, x, term, list, fuel, want)
 				checkLessFuel(t, x, term, list, want)
 			}
@@ -311,12 +382,15 @@ func TestManyRuns(t *testing.T) {
 				name := m.pick("A", "B", "C")
 				define(t, x, name, term, api.OK)
 				names[name[0]] = mustJudge(t, term, names)
+				picker, text := m.pick("P", "Q"), m.pick("r", "<1", "d1", "rP", "Qt1", "#1.0", "(P)^-1", "n")
+				define(t, x, picker, text, api.OK)
+				names[picker[0]] = mustJudge(t, text, names)
 			}
 		}
 	}
 	for _, errno := range []api.Errno{api.OK, api.ErrFuel, api.ErrLength, api.ErrDomain, api.ErrLimit, api.ErrBack} {
-		if seen[errno] < 100 {
-			t.Errorf("only %d runs answered %d", seen[errno], errno)
+		if seen[errno] < 1000 || seenUnder[errno] < 1000 {
+			t.Errorf("only %d runs, %d with unders, answered %d", seen[errno], seenUnder[errno], errno)
 		}
 	}
 }
@@ -338,10 +412,10 @@ func checkLessFuel(t *testing.T, x *Session, term, list string, was ran) {
 // again, in as many steps; and the opposite of the term is that way back.
 func TestThereAndBack(t *testing.T) {
 	m := maker{rand.New(rand.NewPCG(12, 1))}
-	gone := 0
+	gone, goneUnder := 0, 0
 	for range 300 {
 		x := New()
-		for _, name := range []string{"A", "B", "C"} {
+		for _, name := range []string{"A", "B", "C", "P", "Q"} {
 			define(t, x, name, "", api.OK)
 		}
 		for range 60 {
@@ -360,12 +434,16 @@ func TestThereAndBack(t *testing.T) {
 			}
 			if was.errno == api.OK {
 				gone++
+				if strings.Contains(term, "[") {
+					goneUnder++
+				}
 				checkRan(t, x, "("+term+")^1", was.list, api.MaxFuel, ran{list, was.steps, api.OK})
 			}
 			define(t, x, m.pick("A", "B", "C"), m.pick(term, "+1", "rs", "(*2)^-1"), api.OK)
+			define(t, x, m.pick("P", "Q"), m.pick("r", "<1", "d1", "rP", "(Q)^1t1"), api.OK)
 		}
 	}
-	if gone < 3000 {
-		t.Errorf("only %d ways back were gone", gone)
+	if gone < 3000 || goneUnder < 3000 {
+		t.Errorf("only %d ways back, %d with unders, were gone", gone, goneUnder)
 	}
 }
